@@ -1,0 +1,1 @@
+"""Webstore: places and ties, asked by patterns and changed in dealings."""
