@@ -66,3 +66,85 @@ def same_kinds(one, other):
     if isinstance(one, (list, tuple)):
         return len(one) == len(other) and all(map(same_kinds, one, other))
     return one == other
+
+
+def random_way(chance, size, deep=2, most=6, kinds=("a", "b", None)):
+    """A way of so many tuples or a few less, with again and many at most so deep, many up to most."""
+    if size <= 1 or (size == 2 and deep == 0):
+        if chance.random() < 0.12:
+            return ("empty",)
+        return ("step", chance.choice(kinds), chance.choice(("forth", "back", "either")))
+    if size == 2 or (deep > 0 and chance.random() < 0.4):
+        inner = random_way(chance, size - 1, deep - 1, most, kinds)
+        if chance.random() < 0.5:
+            return ("again", inner)
+        low = chance.randrange(most + 1)
+        return ("many", inner, low, chance.randrange(low, most + 1))
+    left = chance.randrange(1, size - 1)
+    parts = [random_way(chance, part, deep, most, kinds) for part in (left, size - 1 - left)]
+    return (chance.choice(("then", "or")), *parts)
+
+
+def all_steps(kinds):
+    """All steps of these kinds."""
+    return [(kind, turn) for kind in kinds for turn in ("forth", "back")]
+
+
+def all_rows(kinds, most):
+    """All rows of at most so many steps of these kinds, shorter ones first."""
+    rows = found = [()]
+    for _ in range(most):
+        rows = [row + (step,) for row in rows for step in all_steps(kinds)]
+        found = found + rows
+    return found
+
+
+def rows_told(way, kinds, most):
+    """The set of all rows of at most so many steps of these kinds that a way tells, by the words of the document."""
+    word = way[0]
+    if word == "step":
+        return {(step,) for step in all_steps(kinds)
+                if way[1] in (None, step[0]) and way[2] in ("either", step[1]) and most > 0}
+    if word == "empty":
+        return {()}
+    if word == "or":
+        return rows_told(way[1], kinds, most) | rows_told(way[2], kinds, most)
+    if word == "then":
+        return one_behind_other(rows_told(way[1], kinds, most), rows_told(way[2], kinds, most), most)
+    low, high = (0, most) if word == "again" else way[2:]
+    inner = rows_told(way[1], kinds, most)
+    rows, found = {()}, set()
+    for times in range(high + 1):
+        if times >= low:
+            found |= rows
+        rows = one_behind_other(rows, inner, most)
+    return found
+
+
+def one_behind_other(ones, others, most):
+    """All rows of at most so many steps that are one of ones and behind it one of others."""
+    return {one + other for one in ones for other in others if len(one) + len(other) <= most}
+
+
+def row_by_chance(chance, way, kinds):
+    """A row of steps that a way tells."""
+    word = way[0]
+    if word == "step":
+        turn = way[2] if way[2] != "either" else chance.choice(("forth", "back"))
+        return ((way[1] or chance.choice(kinds), turn),)
+    if word == "empty":
+        return ()
+    if word == "or":
+        return row_by_chance(chance, chance.choice(way[1:]), kinds)
+    if word == "then":
+        return row_by_chance(chance, way[1], kinds) + row_by_chance(chance, way[2], kinds)
+    low, high = (0, 7) if word == "again" else way[2:]
+    row = ()
+    for _ in range(chance.randrange(low, high + 1)):
+        row += row_by_chance(chance, way[1], kinds)
+    return row
+
+
+def tuples_in(way):
+    """How many tuples a way has."""
+    return 1 + sum(tuples_in(part) for part in way if isinstance(part, tuple))
