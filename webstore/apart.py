@@ -1,6 +1,6 @@
 """Whether two ways tell the same rows, and if not, a row by which they are told apart."""
 
-from webstore.restbook import Restbook, trail
+from webstore.restbook import Restbook
 
 LETTERS = "abcdefghijklmnopqrstuvwxyz"
 
@@ -15,7 +15,7 @@ def apart(one, other):
     at = 0
     while at < len(queue):
         pair = queue[at]
-        if one_may_end(book, pair[0]) != one_may_end(book, pair[1]):
+        if book.some_may_end(pair[0]) != book.some_may_end(pair[1]):
             return trail(came, pair)
         for kind, turn in steps:
             ahead = (book.rests_of_all(pair[0], kind, turn), book.rests_of_all(pair[1], kind, turn))
@@ -27,9 +27,14 @@ def apart(one, other):
     return None
 
 
-def one_may_end(book, numbers):
-    """Whether one of several ways tells the row without steps."""
-    return any([book.may_end(number) for number in numbers])
+def trail(came, last):
+    """The tuple of what led to last: came tells of each the one ahead of it and what led on, None of the first."""
+    found = []
+    here = last
+    while came[here] is not None:
+        here, link = came[here]
+        found.append(link)
+    return tuple(found[::-1])
 
 
 def kinds_in(way):

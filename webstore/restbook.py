@@ -8,6 +8,7 @@ class Restbook:
 
     def __init__(self):
         self.known_ways = []
+        self.known_ends = []
         self.numbers = {}
         self.known_rests = {}
         self.known_sets = {}
@@ -18,6 +19,7 @@ class Restbook:
         if text not in self.numbers:
             self.numbers[text] = len(self.known_ways)
             self.known_ways.append(way)
+            self.known_ends.append(least_steps(way) == 0)
         return self.numbers[text]
 
     def way_of(self, number):
@@ -26,7 +28,11 @@ class Restbook:
 
     def may_end(self, number):
         """Whether a way tells the row without steps."""
-        return least_steps(self.known_ways[number]) == 0
+        return self.known_ends[number]
+
+    def some_may_end(self, numbers):
+        """Whether one of several ways tells the row without steps."""
+        return any([self.may_end(number) for number in numbers])
 
     def rests_of(self, number, kind, turn):
         """The numbers of the rests of a way behind a step."""
@@ -43,13 +49,3 @@ class Restbook:
             found = {rest for number in numbers for rest in self.rests_of(number, kind, turn)}
             self.known_sets[key] = tuple(sorted(found))
         return self.known_sets[key]
-
-
-def trail(came, last):
-    """The tuple of what led to last: came tells of each the one ahead of it and what led on, None of the first."""
-    found = []
-    here = last
-    while came[here] is not None:
-        here, link = came[here]
-        found.append(link)
-    return tuple(found[::-1])
