@@ -43,11 +43,11 @@ def lasting_pairs(maze, left):
     while at < len(queue):
         here = queue[at]
         del lasting[here]
+        # All that leads to a pair of left is in left, too.
         for pair in maze.behind[here]:
-            if pair in left:
-                open_legs[pair] -= 1
-                if open_legs[pair] == 0:
-                    queue.append(pair)
+            open_legs[pair] -= 1
+            if open_legs[pair] == 0:
+                queue.append(pair)
         at += 1
     return lasting
 

@@ -1,6 +1,6 @@
 """Patterns: their form, and what their spots and pairs ask of places."""
 
-from webstore.fitting import is_test
+from webstore.fitting import compares, fits, is_test
 from webstore.values import is_name, is_number
 from webstore.ways import is_way
 
@@ -49,3 +49,33 @@ def is_pair(thing, many):
 def is_spot_number(thing, many):
     """Whether a thing is the number of one of so many spots."""
     return is_number(thing) and 0 <= thing < many
+
+
+def stands(store, spots, thing):
+    """Whether a thing is a row with a place for each spot, each of its spot."""
+    if not isinstance(thing, (list, tuple)) or len(thing) != len(spots):
+        return False
+    return all([is_number(place) and place in store.places() and is_of_spot(store, spot, place)
+                for spot, place in zip(spots, thing)])
+
+
+def is_of_spot(store, spot, place):
+    """Whether a place of the store is of a spot."""
+    kind, fields = store.place(place)
+    return spot[0] in (None, kind) and fits(spot[1], fields)
+
+
+def spots_of(pair):
+    """The numbers of the two spots of a pair."""
+    return (pair[1], pair[2]) if pair[0] == "unlike" else (pair[1], pair[3])
+
+
+def is_so(store, pair, one, other):
+    """Whether a pair is so of the places at its two spots."""
+    if pair[0] == "unlike":
+        return one != other
+    value = dict(store.place(one)[1]).get(pair[2])
+    bound = dict(store.place(other)[1]).get(pair[4])
+    if value is None or bound is None:
+        return False
+    return compares("is" if pair[0] == "same" else "under", value, bound)

@@ -114,12 +114,16 @@ class Maze:
 
     def short_walk(self, pair, left):
         """A row of the fewest legs from a pair to the end, where left tells how many are left."""
-        walk = []
+        return tuple([leg for leg, ahead in self.short_links(pair, left)])
+
+    def short_links(self, pair, left):
+        """The same, each leg with the pair that it leads to."""
+        links = []
         while left[pair] > 0:
             nearer = [link for link in self.onward[pair] if left.get(link[1]) == left[pair] - 1]
-            leg, pair = nearer[0]
-            walk.append(leg)
-        return tuple(walk)
+            links.append(nearer[0])
+            pair = nearer[0][1]
+        return links
 
     def further(self, state, left, room):
         """All (leg, state behind it), legs rising, from which a walk can end within so many legs more.
