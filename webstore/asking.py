@@ -11,10 +11,28 @@ MOST_ROWS = 200
 
 def ask(store, pattern):
     """The rising list of (row, count) for all rows that lay a pattern; refused without an end, or with too many."""
-    spots, bows, pairs = pattern
-    rooms = [[place for place in store.places() if is_of_spot(store, spot, place)] for spot in spots]
-    spans = [Span(store, bow, rooms[bow[0]]) for bow in bows]
-    links = [Pairing(store, pair) for pair in pairs] + quick_ones_first(spans)
+    rooms = rooms_of(store, pattern)
+    return answered(rooms, pairings_of(store, pattern), spans_over(store, pattern, rooms))
+
+
+def rooms_of(store, pattern):
+    """For each spot of a pattern the rising list of the places that are of it."""
+    return [[place for place in store.places() if is_of_spot(store, spot, place)] for spot in pattern[0]]
+
+
+def pairings_of(store, pattern):
+    """The pairs of a pattern as links."""
+    return [Pairing(store, pair) for pair in pattern[2]]
+
+
+def spans_over(store, pattern, rooms):
+    """The bows of a pattern as links."""
+    return [Span(store, bow, rooms[bow[0]]) for bow in pattern[1]]
+
+
+def answered(rooms, pairings, spans):
+    """What ask tells of a pattern with these rooms and links; refused likewise."""
+    links = pairings + quick_ones_first(spans)
     first = first_without_end(rooms, spans, links)
     if first is not None:
         raise NoEnd(first)
@@ -24,13 +42,20 @@ def ask(store, pattern):
     return [(row, count_of(spans, row)) for row in rows]
 
 
+def first_row(store, pattern):
+    """The first row that lays a pattern, whatever its count; None where there is none."""
+    rooms = rooms_of(store, pattern)
+    links = pairings_of(store, pattern) + quick_ones_first(spans_over(store, pattern, rooms))
+    return min(Board(rooms, links).first_rows(1), default=None)
+
+
 def laid(store, pattern, row):
     """The count of a row, None for one without end, 0 where it doesn't lay the pattern."""
-    spots, bows, pairs = pattern
+    spots, bows = pattern[:2]
     if not stands(store, spots, row):
         return 0
     spans = [Span(store, bow, [row[bow[0]]]) for bow in bows]
-    links = [Pairing(store, pair) for pair in pairs] + spans
+    links = pairings_of(store, pattern) + spans
     if not all([link.holds(row[link.i], row[link.j]) for link in links]):
         return 0
     return count_of(spans, row)
